@@ -1,0 +1,1 @@
+"""Boughworth: worths carried up, down and along trees."""

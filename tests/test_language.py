@@ -1,0 +1,157 @@
+"""The package keeps to the small part of Python that it is written in (the rules that can be seen by a plain look)."""
+
+import ast
+import builtins
+import pathlib
+import re
+import unittest
+
+PACKAGE = pathlib.Path(__file__).resolve().parent.parent / "boughworth"
+
+STATEMENTS = (
+    ast.Assign, ast.AugAssign, ast.If, ast.While, ast.For, ast.Return, ast.Break, ast.Continue, ast.Pass, ast.Raise,
+    ast.Try, ast.Expr, ast.FunctionDef, ast.ClassDef, ast.ImportFrom,
+)
+NO_EXPRESSIONS = (
+    ast.SetComp, ast.DictComp, ast.GeneratorExp, ast.NamedExpr, ast.Starred, ast.Yield, ast.YieldFrom, ast.Await,
+    ast.Div, ast.MatMult,
+)
+OWN_NAMES = set((
+    "len range enumerate zip min max sum abs sorted reversed int str bool list tuple dict set frozenset isinstance ord "
+    "repr any all divmod Exception ValueError TypeError KeyError IndexError LookupError ZeroDivisionError "
+    "ArithmeticError OverflowError RuntimeError NotImplementedError AttributeError StopIteration"
+).split())
+METHODS = set((
+    "append clear copy count endswith extend find get index insert isalnum isalpha isdigit islower isspace isupper "
+    "items join keys ljust lower lstrip partition pop remove replace reverse rfind rjust rpartition rsplit rstrip "
+    "setdefault split splitlines startswith strip update upper values zfill bit_length"
+).split())
+NO_NAMES = set((
+    "register mro elements open input version_info with_traceback add_note attrgetter breakpoint builtins compile "
+    "copyright credits delattr dir eval exec exit gc getattr globals hasattr help id importlib license locals "
+    "methodcaller os quit setattr super type vars sys"
+).split())
+NO_WORDS = re.compile(
+    r"\b(type|typing|typing_extensions|enum|Enum|IntEnum|StrEnum|Flag|IntFlag|Generic|Protocol|ABC|ABCMeta|namedtuple|"
+    r"NamedTuple|TypedDict|TYPE_CHECKING|abstractmethod)\b|dataclass|overload|contextmanager"
+)
+SPECIAL_METHODS = ("__init__", "__eq__", "__repr__", "__str__", "__len__")
+
+
+def sources():
+    return [(path.name, path.read_text(encoding="utf-8")) for path in sorted(PACKAGE.glob("*.py"))]
+
+
+def nodes():
+    for name, text in sources():
+        for node in ast.walk(ast.parse(text)):
+            yield f"{name}:{getattr(node, 'lineno', 0)}", node
+
+
+def bound_names(node):
+    """The names that a node binds, defs and parameters among them."""
+    if isinstance(node, (ast.FunctionDef, ast.ClassDef)):
+        return [node.name]
+    if isinstance(node, ast.arg):
+        return [node.arg]
+    if isinstance(node, ast.Name) and isinstance(node.ctx, ast.Store):
+        return [node.id]
+    if isinstance(node, ast.ExceptHandler):
+        return [node.name] if node.name else []
+    return []
+
+
+def own_methods():
+    return set(inner.name for where, node in nodes() if isinstance(node, ast.ClassDef) for inner in node.body
+               if isinstance(inner, ast.FunctionDef))
+
+
+class LanguageTest(unittest.TestCase):
+
+    def test_files(self):
+        self.assertTrue((PACKAGE / "__init__.py").is_file())
+        for path in PACKAGE.iterdir():
+            if path.name != "__pycache__":
+                self.assertRegex(path.name, r"^(__init__|[a-z][a-z0-9_]*)\.py$")
+
+    def test_lines_and_signs(self):
+        for name, text in sources():
+            rows = text.split("\n")
+            self.assertLessEqual(len(rows), 400, name)
+            for number, row in enumerate(rows, start=1):
+                self.assertRegex(row, r"^[ -~]{0,120}$", f"{name}:{number}")
+                self.assertIsNone(NO_WORDS.search(row), f"{name}:{number}")
+
+    def test_defs(self):
+        for where, node in nodes():
+            if isinstance(node, ast.FunctionDef):
+                self.assertLessEqual(node.end_lineno - node.lineno + 1, 40, where)
+                self.assertEqual(node.decorator_list, [], where)
+                args = node.args
+                self.assertFalse(args.vararg or args.kwarg or args.kwonlyargs or args.posonlyargs, where)
+
+    def test_classes(self):
+        for where, node in nodes():
+            if isinstance(node, ast.ClassDef):
+                self.assertEqual(node.decorator_list + node.keywords, [], where)
+                self.assertLessEqual(len(node.bases), 1, where)
+                for inner in node.body:
+                    self.assertIsInstance(inner, (ast.FunctionDef, ast.Pass), where)
+
+    def test_tops_of_files(self):
+        kinds = (ast.ImportFrom, ast.FunctionDef, ast.ClassDef, ast.Assign)
+        for name, text in sources():
+            body = ast.parse(text).body
+            self.assertIsInstance(ast.parse(text).body[0], ast.Expr, name)
+            for node in body[1:]:
+                self.assertIsInstance(node, kinds, name)
+                if isinstance(node, ast.ImportFrom):
+                    self.assertRegex(node.module or "", r"^boughworth\.[a-z]", name)
+                    self.assertEqual(node.level, 0, name)
+                    self.assertTrue(all(alias.name != "*" for alias in node.names), name)
+
+    def test_statements(self):
+        for where, node in nodes():
+            if isinstance(node, ast.stmt):
+                self.assertIsInstance(node, STATEMENTS, where)
+            if isinstance(node, (ast.For, ast.While)):
+                self.assertEqual(node.orelse, [], where)
+            if isinstance(node, ast.Assign):
+                self.assertEqual(len(node.targets), 1, where)
+            if isinstance(node, ast.Try):
+                self.assertEqual(node.finalbody, [], where)
+            if isinstance(node, ast.ExceptHandler):
+                self.assertIsNotNone(node.type, where)
+
+    def test_expressions(self):
+        for where, node in nodes():
+            self.assertNotIsInstance(node, NO_EXPRESSIONS, where)
+            if isinstance(node, ast.Constant):
+                self.assertNotIsInstance(node.value, (float, complex, bytes), where)
+                self.assertFalse(isinstance(node.value, str) and "%" in node.value, where)
+            if isinstance(node, ast.ListComp):
+                self.assertEqual(len(node.generators), 1, where)
+                self.assertLessEqual(len(node.generators[0].ifs), 1, where)
+            if isinstance(node, ast.Compare) and any(isinstance(op, (ast.Is, ast.IsNot)) for op in node.ops):
+                self.assertIsInstance(node.comparators[-1], ast.Constant, where)
+
+    def test_names(self):
+        for where, node in nodes():
+            for name in bound_names(node):
+                if name not in SPECIAL_METHODS:
+                    self.assertRegex(name, r"^[A-Za-z][A-Za-z0-9_]*$", where)
+                    self.assertNotIn(name, NO_NAMES, where)
+                if isinstance(node, (ast.arg, ast.Name)):
+                    self.assertFalse(hasattr(builtins, name), where)
+            if isinstance(node, ast.Name) and hasattr(builtins, node.id):
+                self.assertIn(node.id, OWN_NAMES, where)
+
+    def test_methods(self):
+        known = METHODS | own_methods() | {"__init__"}
+        for where, node in nodes():
+            if isinstance(node, ast.Call) and isinstance(node.func, ast.Attribute):
+                self.assertIn(node.func.attr, known, where)
+
+
+if __name__ == "__main__":
+    unittest.main()
