@@ -59,6 +59,16 @@ def tuples_of(formula):
     return found
 
 
+# tell is called of each tuple, with the list of what it told of the formulas in it, these from left to right.
+# Walked from the last tuple to the first, these lie on top of the pile by then, the first one uppermost.
+def folded(formula, tell):
+    pile = []
+    for one in reversed(tuples_of(formula)):
+        inner = [pile.pop() for number in range(len(inner_of(one)))]
+        pile.append(tell(one, inner))
+    return pile.pop()
+
+
 def size_of(formula):
     return len(tuples_of(formula))
 

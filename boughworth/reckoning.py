@@ -1,34 +1,25 @@
 """A formula reckoned, with a wheel or without one."""
 
-from boughworth.formulas import READINGS, tuples_of
+from boughworth.formulas import READINGS, folded
 
 
-# Walked from the last tuple to the first, what stands within a tuple is reckoned ahead of it,
-# and lies on top of the pile, its first formula uppermost.
 def reckoned(formula, told, wheel):
-    pile = []
-    for one in reversed(tuples_of(formula)):
-        pile.append(rest_of(worth_of(one, told, pile), wheel))
-    return pile.pop()
+    return folded(formula, lambda one, inner: rest_of(worth_of(one, told, inner), wheel))
 
 
 def rest_of(number, wheel):
     return number % wheel if wheel > 0 else number
 
 
-# Takes the worths of the formulas in the tuple off the pile.
-def worth_of(one, told, pile):
+def worth_of(one, told, inner):
     kind = one[0]
     if kind == "num":
         return one[1]
     if kind in READINGS:
         return told[one]
-    first = pile.pop()
-    second = pile.pop()
     if kind == "when":
-        third = pile.pop()
-        return second if first == 0 else third
-    return joined(kind, first, second)
+        return inner[1] if inner[0] == 0 else inner[2]
+    return joined(kind, inner[0], inner[1])
 
 
 def joined(kind, first, second):

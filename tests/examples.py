@@ -6,6 +6,11 @@ X = ("own", "x")
 Y = ("part", 0, "y")
 ONE = ("num", 1)
 
+NO_WORDS = [
+    "", "abcdefghi", "X", "aB", "x1", "7", "x y", " x", "x ", " ", "x.y", "x_", "-", "x\n", "\u00e9", "\u03b1",
+    None, True, 0, (), ("x",), ["x"], {"x": "x"},
+]
+
 ONE_OF_EACH_KIND = [
     ("num", 7),
     ("own", "x"),
@@ -72,3 +77,19 @@ def formulas_up_to(rounds, leaves):
         made += [("when", a, b, c) for a in base for b in base for c in base[:3]]
         found = list(leaves) + made
     return found
+
+
+def written(formula):
+    """Point 7 word by word, as a second way to the same text."""
+    kind = formula[0]
+    if kind == "num":
+        return str(formula[1])
+    if kind == "own":
+        return f"own.{formula[1]}"
+    if kind == "part":
+        return f"{formula[1]}.{formula[2]}"
+    inner = [written(one) for one in formula[1:]]
+    if kind == "when":
+        return f"({inner[0]} ? {inner[1]} : {inner[2]})"
+    sign = {"plus": "+", "less": "-", "times": "*", "least": "min", "most": "max"}[kind]
+    return f"({inner[0]} {sign} {inner[1]})"

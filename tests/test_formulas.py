@@ -4,13 +4,8 @@ import unittest
 
 from boughworth.formulas import is_formula, readings_of, size_of
 from examples import (
-    KINDS_OF_TWO, ONE, ONE_OF_EACH_KIND, X, Y, chain, chain_to_the_right, formulas_up_to, within,
+    KINDS_OF_TWO, NO_WORDS, ONE, ONE_OF_EACH_KIND, X, Y, chain, chain_to_the_right, formulas_up_to, within,
 )
-
-NO_WORDS = [
-    "", "abcdefghi", "X", "aB", "x1", "7", "x y", " x", "x ", " ", "x.y", "x_", "-", "x\n", "\u00e9", "\u03b1",
-    None, True, 0, (), ("x",), ["x"], {"x": "x"},
-]
 
 NO_FORMULAS = [
     0, 1, -7, 10 ** 5000, True, False, None, "", "x", "num", "own.x", [], ["num", 1], ["own", "x"], {},

@@ -16,6 +16,7 @@ NO_EXPRESSIONS = (
     ast.SetComp, ast.DictComp, ast.GeneratorExp, ast.NamedExpr, ast.Starred, ast.Yield, ast.YieldFrom, ast.Await,
     ast.Div, ast.MatMult,
 )
+PLAIN_VALUES = (ast.Constant, ast.Tuple, ast.List, ast.Dict, ast.Load)
 OWN_NAMES = set((
     "len range enumerate zip min max sum abs sorted reversed int str bool list tuple dict set frozenset isinstance ord "
     "repr any all divmod Exception ValueError TypeError KeyError IndexError LookupError ZeroDivisionError "
@@ -59,6 +60,13 @@ def bound_names(node):
     if isinstance(node, ast.ExceptHandler):
         return [node.name] if node.name else []
     return []
+
+
+def names_at_top(text):
+    found = []
+    for node in ast.parse(text).body:
+        found += bound_names(node.targets[0] if isinstance(node, ast.Assign) else node)
+    return found
 
 
 def own_methods():
@@ -109,6 +117,51 @@ class LanguageTest(unittest.TestCase):
                     self.assertRegex(node.module or "", r"^boughworth\.[a-z]", name)
                     self.assertEqual(node.level, 0, name)
                     self.assertTrue(all(alias.name != "*" for alias in node.names), name)
+
+    def test_values_at_the_tops_of_files(self):
+        for name, text in sources():
+            bound = []
+            for node in ast.parse(text).body:
+                if isinstance(node, ast.Assign):
+                    bound.append(node.targets[0].id)
+                    for inner in ast.walk(node.value):
+                        self.assertIsInstance(inner, PLAIN_VALUES, f"{name}:{node.lineno}")
+                        if inner is not node.value:
+                            self.assertNotIsInstance(inner, (ast.List, ast.Dict), f"{name}:{node.lineno}")
+            self.assertEqual(len(bound), len(set(bound)), name)
+
+    def test_imports_are_from_the_very_file_and_never_round(self):
+        drawn = {}
+        for name, text in sources():
+            imports = [node for node in ast.parse(text).body if isinstance(node, ast.ImportFrom)]
+            drawn[name] = [node.module.removeprefix("boughworth.") + ".py" for node in imports]
+            for node, other in zip(imports, drawn[name]):
+                own_names = names_at_top((PACKAGE / other).read_text(encoding="utf-8"))
+                for alias in node.names:
+                    self.assertIn(alias.name, own_names, name)
+        while drawn:
+            last = [name for name in drawn if not any(other in drawn for other in drawn[name])]
+            self.assertTrue(last, f"these draw from one another: {sorted(drawn)}")
+            drawn = {name: others for name, others in drawn.items() if name not in last}
+
+    def test_no_local_is_called_like_an_import_a_class_or_a_def(self):
+        for name, text in sources():
+            tree = ast.parse(text)
+            taken = names_at_top(text)
+            taken += [alias.name for node in tree.body if isinstance(node, ast.ImportFrom) for alias in node.names]
+            for top in tree.body:
+                if isinstance(top, (ast.FunctionDef, ast.ClassDef)):
+                    for node in ast.walk(top):
+                        if isinstance(node, (ast.arg, ast.Name)):
+                            for local in bound_names(node):
+                                self.assertNotIn(local, taken, f"{name}:{node.lineno}")
+
+    def test_what_is_walked_at_once(self):
+        for where, node in nodes():
+            if isinstance(node, (ast.Assign, ast.Return)) and isinstance(node.value, ast.Call):
+                called = node.value.func
+                word = called.id if isinstance(called, ast.Name) else getattr(called, "attr", "")
+                self.assertNotIn(word, ("zip", "enumerate", "reversed", "range", "items", "keys", "values"), where)
 
     def test_statements(self):
         for where, node in nodes():
