@@ -6,6 +6,7 @@ A reading that the form itself has no rule for is an own down or a part's up: th
 from boughworth.books import forms_of, formulas_by_key, rules_of, sorts_of, wheel_of
 from boughworth.errors import Tangled, TooGreat
 from boughworth.formulas import READINGS, folded, readings_of, tuples_of
+from boughworth.rings import order_of
 
 MOST_TUPLES_MADE = 400
 
@@ -43,14 +44,9 @@ def keys_read_by_key(form):
 # Each key stands behind those that its rule reads.
 def order_of_keys(form):
     read = keys_read_by_key(form)
-    order = []
-    left = list(read)
-    while left:
-        ready = [key for key in left if all([other in order for other in read[key]])]
-        if not ready:
-            raise Tangled(form[0])
-        order.extend(ready)
-        left = [key for key in left if key not in ready]
+    order = order_of(read)
+    if len(order) < len(read):
+        raise Tangled(form[0])
     return order
 
 

@@ -35,14 +35,18 @@ def sort_of(book, tree):
 
 
 def places_of(tree):
-    places = []
+    return list(boughs_by_place(tree))
+
+
+def boughs_by_place(tree):
+    boughs = {}
     waiting = [((), tree)]
     while waiting:
         pair = waiting.pop()
-        places.append(pair[0])
+        boughs[pair[0]] = pair[1]
         below = [(pair[0] + (k,), part) for k, part in enumerate(pair[1][1])]
         waiting.extend(below[::-1])
-    return places
+    return boughs
 
 
 def bough_at(tree, place):

@@ -1,0 +1,36 @@
+"""Trees written as texts, and texts read as trees of a book."""
+
+from boughworth.books import form_named, forms_of, parts_of
+from boughworth.errors import NoText
+from boughworth.trees import boughs_by_place, is_tree
+
+
+# Walked from the last bough to the first, the texts of a bough's parts lie on top of the pile by then, the first one
+# uppermost.
+def show_tree(tree):
+    pile = []
+    for bough in reversed(list(boughs_by_place(tree).values())):
+        parts = [pile.pop() for part in bough[1]]
+        pile.append(bough[0] + "(" + ", ".join(parts) + ")" if parts else bough[0])
+    return pile.pop()
+
+
+# The names alone tell which tree it can be, as each form has its number of parts; whether brackets, commas and blanks
+# stand as they should is seen when that tree is written.
+def read_tree(book, text):
+    tree = tree_of_names(book, text.replace("(", " ").replace(")", " ").replace(",", " ").split(" "))
+    if not is_tree(book, tree) or show_tree(tree) != text:
+        raise NoText("this text writes no tree of the book")
+    return tree
+
+
+# Perhaps with parts of other sorts, or too many places; None where the names are none of a tree.
+def tree_of_names(book, names):
+    known = [form[0] for form in forms_of(book)]
+    pile = []
+    for name in reversed([word for word in names if word != ""]):
+        many = len(parts_of(form_named(book, name))) if name in known else len(pile) + 1
+        if many > len(pile):
+            return None
+        pile.append((name, tuple([pile.pop() for number in range(many)])))
+    return pile[0] if len(pile) == 1 else None
