@@ -63,6 +63,10 @@ def ups_of(book, sort):
     return sort_named(book, sort)[2]
 
 
+def worths_of_sort(book, sort):
+    return downs_of(book, sort) + ups_of(book, sort)
+
+
 def sort_of_form(form):
     return form[1]
 
@@ -78,6 +82,16 @@ def rules_of(form):
 # By its key, at and word, a rule is known within its form.
 def keys_of(form):
     return [rule[:2] for rule in rules_of(form)]
+
+
+# The key of the rule by which the form itself would tell what is read.
+def key_of(reading):
+    return (-1, reading[1]) if reading[0] == "own" else (reading[1], reading[2])
+
+
+# The sort of the tree that the form makes, at -1, or of one of its parts.
+def sort_at(form, at):
+    return sort_of_form(form) if at == -1 else parts_of(form)[at]
 
 
 def formulas_by_key(form):
@@ -159,12 +173,8 @@ def has_formulas(book, form):
 
 
 def is_told(book, form, reading):
-    sort = sort_of_form(form)
-    if reading[0] == "part":
-        if reading[1] >= len(parts_of(form)):
-            return False
-        sort = parts_of(form)[reading[1]]
-    return reading[-1] in downs_of(book, sort) + ups_of(book, sort)
+    key = key_of(reading)
+    return key[0] < len(parts_of(form)) and key[1] in worths_of_sort(book, sort_at(form, key[0]))
 
 
 def is_level(book):

@@ -123,9 +123,8 @@ def keys_needed(book, counts, top):
     return sorted(found, key=lambda key: key[1])
 
 
+# The empty row is made of nothing.
 def keys_beneath(book, counts, key):
-    if key[0] == ():
-        return []
     if len(key[0]) == 1:
         return [below for name, below in forms_with_keys(book, key[0], key[1]) if counts[below] > 0]
     found = []
@@ -143,8 +142,8 @@ def all_made(book, key, made):
     if len(key[0]) == 1:
         for name, below in forms_with_keys(book, key[0], key[1]):
             found.extend([((name, parts),) for parts in made.get(below, [])])
-        return found
-    for first, rest in cuts_of(key[0], key[1]):
-        for tree in made.get(first, []):
-            found.extend([tree + others for others in made.get(rest, [])])
+    else:
+        for first, rest in cuts_of(key[0], key[1]):
+            for tree in made.get(first, []):
+                found.extend([tree + others for others in made.get(rest, [])])
     return found

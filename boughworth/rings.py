@@ -58,14 +58,33 @@ def ring_from(reads, start):
     return list(way)[way[one]:]
 
 
-# The start itself, and all that it comes to by reading on, with what they read.
-def reads_from(reads, start):
-    found = {start: reads[start]}
+# From the start itself, and all that it comes to by reading on, to the one by which each was found first.
+def found_from(reads, start):
+    found = {start: None}
     waiting = [start]
     while waiting:
         one = waiting.pop()
         for other in reads[one]:
             if other not in found:
-                found[other] = reads[other]
+                found[other] = one
                 waiting.append(other)
     return found
+
+
+# Only the start and those that it comes to, with what they read.
+def reads_from(reads, start):
+    fewer = {}
+    for one in found_from(reads, start):
+        fewer[one] = reads[one]
+    return fewer
+
+
+# Each one of the way reads the next one; None where the start does not come to the goal. To itself it comes by no step.
+def way_to(reads, start, goal):
+    found = found_from(reads, start)
+    if goal not in found:
+        return None
+    way = [goal]
+    while way[-1] != start:
+        way.append(found[way[-1]])
+    return way[::-1]

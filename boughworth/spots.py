@@ -58,6 +58,10 @@ def told_by_form(form):
     return told
 
 
+def reads_of_tree(book, tree):
+    return reads_by_spot(rules_by_spot(book, tree))
+
+
 def reads_by_spot(rules):
     reads = {}
     for spot, rule in rules.items():

@@ -3,7 +3,7 @@
 A reading that the form itself has no rule for is an own down or a part's up: those, and no others, are straight.
 """
 
-from boughworth.books import forms_of, formulas_by_key, rules_of, sorts_of, wheel_of
+from boughworth.books import forms_of, formulas_by_key, key_of, rules_of, sorts_of, wheel_of
 from boughworth.errors import Tangled, TooGreat
 from boughworth.formulas import READINGS, folded, readings_of, tuples_of
 from boughworth.rings import order_of
@@ -25,11 +25,6 @@ def made_straight(book):
         need_few_tuples(form, order)
     forms = [form_made_straight(form, order) for form, order in zip(forms_of(book), orders)]
     return (wheel_of(book), sorts_of(book), tuple(forms))
-
-
-# The key of the rule by which the form itself would tell what is read.
-def key_of(reading):
-    return (-1, reading[1]) if reading[0] == "own" else (reading[1], reading[2])
 
 
 def keys_read_by_key(form):

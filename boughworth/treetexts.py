@@ -1,6 +1,6 @@
 """Trees written as texts, and texts read as trees of a book."""
 
-from boughworth.books import form_named, forms_of, parts_of
+from boughworth.books import forms_of, parts_of
 from boughworth.errors import NoText
 from boughworth.trees import boughs_by_place, is_tree
 
@@ -24,12 +24,14 @@ def read_tree(book, text):
     return tree
 
 
-# Perhaps with parts of other sorts, or too many places; None where the names are none of a tree.
+# Perhaps with names of no form, parts of other sorts, or too many places; None where these names make no one tree.
 def tree_of_names(book, names):
-    known = [form[0] for form in forms_of(book)]
+    counts = {}
+    for form in forms_of(book):
+        counts[form[0]] = len(parts_of(form))
     pile = []
     for name in reversed([word for word in names if word != ""]):
-        many = len(parts_of(form_named(book, name))) if name in known else len(pile) + 1
+        many = counts.get(name, 0)
         if many > len(pile):
             return None
         pile.append((name, tuple([pile.pop() for number in range(many)])))

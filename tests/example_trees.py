@@ -1,5 +1,6 @@
 """Trees, and what the words of the document tell of them, as a second way to the same; several tests use it."""
 
+import copy
 import functools
 import itertools
 import random
@@ -135,6 +136,15 @@ def is_order_by_the_words(reads, order):
     if not isinstance(order, list) or sorted(order) != sorted(reads):
         return False
     return all(other in order[:k] for k, one in enumerate(order) for other in reads[one])
+
+
+def paper_looked_at(case, asked, by_the_words, book, paper, due):
+    """What looks at papers says as told, as the words do, and changes nothing."""
+    before = copy.deepcopy(paper)
+    with case.subTest(paper=paper):
+        case.assertIs(asked(book, paper), due)
+        case.assertIs(by_the_words(book, paper), due)
+        case.assertEqual(paper, before)
 
 
 RANDOM_SORTS = (

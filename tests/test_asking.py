@@ -159,7 +159,9 @@ class WorthsTest(unittest.TestCase):
 
     def test_great_numbers_are_exact(self):
         sorts = (("a", (), ("u",)),)
-        told = {"f": ("times", part(0, "u"), ("times", ("num", -999999), part(1, "u"))), "g": chain(15, "times", ("num", -7))}
+        told = {
+            "f": ("times", part(0, "u"), ("times", ("num", -999999), part(1, "u"))), "g": chain(15, "times", ("num", -7)),
+        }
         book = book_with(0, sorts, (("f", "a", ("a", "a")), ("g", "a", ())), lambda bare, form, key: told[form[0]])
         tree = within(29, G, lambda inner: ("f", (inner, G)))
         self.assertEqual(worth_at(book, tree, {}, ((), "u")), (-999999) ** 29 * (7 ** 8) ** 30)

@@ -213,6 +213,14 @@ class TreesOfTest(unittest.TestCase):
         self.assertEqual(trees_of(book, "b", 2), [("top", (("leaf", ()),))])
         refuses(self, TooMany, lambda: trees_of(book, "b", 60))
 
+    def test_few_trees_though_their_parts_have_many_of_other_sizes(self):
+        """Of d there is one tree of 13 places, and none of fewer; of a there are 4 ** 14 trees of 15 places."""
+        four = [("f" + letter, "a", ("a",)) for letter in "abcd"]
+        book = of_heads(("leaf", "a", ()), *four, ("u", "b", ()), ("v", "c", ("b", "b", "b")), ("w", "d", ("c", "c", "c")),
+                        ("top", "d", ("a", "d")))
+        self.assertEqual(many_trees(book, "d", 17), 4 ** 2 + 1)
+        self.assertEqual(len(set(trees_of(book, "d", 17))), 17)
+
     def test_just_a_thousand(self):
         """Ten trees of b, of two places each, and three of them beneath i."""
         ends = [("f" + letter, "a", ()) for letter in "abcde"]
@@ -224,7 +232,8 @@ class TreesOfTest(unittest.TestCase):
 
     def test_one_more_than_a_thousand(self):
         """As many trees of c as there are ways to share out all but two places to five rows."""
-        book = of_heads(("end", "a", ()), ("one", "a", ("a",)), ("few", "b", ("a", "a", "a")), ("all", "c", ("b", "a", "a")))
+        book = of_heads(("end", "a", ()), ("one", "a", ("a",)), ("few", "b", ("a", "a", "a")),
+                        ("all", "c", ("b", "a", "a")))
         self.assertEqual(many_trees(book, "c", 17), 1001)
         refuses(self, TooMany, lambda: trees_of(book, "c", 17))
         self.assertEqual(len(set(trees_of(book, "c", 16))), 715)

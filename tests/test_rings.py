@@ -4,7 +4,7 @@ import itertools
 import random
 import unittest
 
-from boughworth.rings import order_of, reads_from, ring_from, ring_in
+from boughworth.rings import order_of, reads_from, ring_from, ring_in, way_to
 from example_trees import come_to, hanging, is_ring_by_the_words
 
 
@@ -32,11 +32,21 @@ class RingsTest(unittest.TestCase):
         for one in reads:
             self.assertEqual(set(reads_from(reads, one)), reached[one] | {one})
             self.assertTrue(all(reads_from(reads, one)[other] == reads[other] for other in reached[one]))
+            for other in reads:
+                self.way_looked_at(reads, reached, one, other)
             if one in hang:
                 ring = ring_from(reads, one)
                 self.assertTrue(is_ring_by_the_words(reads, ring))
                 self.assertLessEqual(set(ring), reached[one] | {one})
         self.assertEqual(reads, before)
+
+    def way_looked_at(self, reads, reached, one, other):
+        way = way_to(reads, one, other)
+        if one != other and other not in reached[one]:
+            self.assertIsNone(way)
+        else:
+            self.assertEqual((way[0], way[-1], len(set(way))), (one, other, len(way)))
+            self.assertTrue(all(following in reads[step] for step, following in zip(way, way[1:])))
 
     def test_none_and_one(self):
         self.assertEqual((order_of({}), ring_in({})), ([], None))
