@@ -27,6 +27,7 @@ METHODS = set((
     "items join keys ljust lower lstrip partition pop remove replace reverse rfind rjust rpartition rsplit rstrip "
     "setdefault split splitlines startswith strip update upper values zfill bit_length"
 ).split())
+CHANGES = ("append", "clear", "extend", "insert", "pop", "remove", "reverse", "setdefault", "update")
 NO_NAMES = set((
     "register mro elements open input version_info with_traceback add_note attrgetter breakpoint builtins compile "
     "copyright credits delattr dir eval exec exit gc getattr globals hasattr help id importlib license locals "
@@ -67,6 +68,20 @@ def names_at_top(text):
     for node in ast.parse(text).body:
         found += bound_names(node.targets[0] if isinstance(node, ast.Assign) else node)
     return found
+
+
+def called_name(node):
+    return node.func.id if isinstance(node, ast.Call) and isinstance(node.func, ast.Name) else None
+
+
+def changed_name(node):
+    """The name of what a call or an assignment changes, None where it changes nothing that has a name."""
+    changed = None
+    if isinstance(node, ast.Call) and isinstance(node.func, ast.Attribute) and node.func.attr in CHANGES:
+        changed = node.func.value
+    if isinstance(node, ast.Subscript) and isinstance(node.ctx, ast.Store):
+        changed = node.value
+    return changed.id if isinstance(changed, ast.Name) else None
 
 
 def own_methods():
@@ -162,6 +177,21 @@ class LanguageTest(unittest.TestCase):
                 called = node.value.func
                 word = called.id if isinstance(called, ast.Name) else getattr(called, "attr", "")
                 self.assertNotIn(word, ("zip", "enumerate", "reversed", "range", "items", "keys", "values"), where)
+
+    def test_nothing_that_a_loop_walks_is_changed_in_it(self):
+        for where, node in nodes():
+            if isinstance(node, ast.For):
+                walked = set(inner.id for inner in ast.walk(node.iter) if isinstance(inner, ast.Name))
+                for inner in [one for row in node.body for one in ast.walk(row)]:
+                    self.assertNotIn(changed_name(inner), walked, where)
+
+    def test_sets_are_only_compared_counted_or_sorted(self):
+        for name, text in sources():
+            for node in ast.walk(ast.parse(text)):
+                for inner in ast.iter_child_nodes(node):
+                    if isinstance(inner, ast.Set) or called_name(inner) in ("set", "frozenset"):
+                        fits = isinstance(node, ast.Compare) or called_name(node) in ("sorted", "len")
+                        self.assertTrue(fits, f"{name}:{inner.lineno}")
 
     def test_statements(self):
         for where, node in nodes():
