@@ -50,7 +50,11 @@ def least_tree(book, sort):
 
 
 def live_forms(book):
-    return [form[0] for form in grown_forms(book, least_sizes(book))]
+    return [form[0] for form in forms_that_live(book)]
+
+
+def forms_that_live(book):
+    return grown_forms(book, least_sizes(book))
 
 
 def many_trees(book, sort, size):

@@ -4,9 +4,9 @@ A step is a tuple of a form's name, the number of one of its rules, and one of t
 tuple of the form, the key of the rule, and the key of what is read.
 """
 
-from boughworth.books import forms_of, key_of, keys_of, rules_of, sort_at, sorts_of
+from boughworth.books import key_of, keys_of, rules_of, sort_at, sorts_of
 from boughworth.formulas import readings_of
-from boughworth.growth import live_forms
+from boughworth.growth import forms_that_live
 from boughworth.rings import ring_in, way_to
 from boughworth.straight import keys_read_by_key
 
@@ -44,11 +44,6 @@ def worths_of_book(book):
     for name, downs, ups in sorts_of(book):
         found.extend([(name, word) for word in downs + ups])
     return found
-
-
-def forms_that_live(book):
-    live = live_forms(book)
-    return [form for form in forms_of(book) if form[0] in live]
 
 
 def links_by_step(book):

@@ -2,7 +2,7 @@
 
 from boughworth.books import downs_of, forms_of, parts_of, sort_of_form, sorts_of, ups_of
 from boughworth.errors import TooGreat
-from boughworth.growth import least_sizes, live_forms
+from boughworth.growth import forms_that_live, least_sizes
 from boughworth.hangs import hang_at, reads_at_form, reads_with_hangs
 from boughworth.rings import ring_in
 from boughworth.spots import reads_of_tree
@@ -12,10 +12,7 @@ MOST_HANGS = 12
 
 
 def is_safe(book, table):
-    if not is_table(book, table):
-        return False
-    live = live_forms(book)
-    return all([is_closed_at(book, form, table) for form in forms_of(book) if form[0] in live])
+    return is_table(book, table) and all([is_closed_at(book, form, table) for form in forms_that_live(book)])
 
 
 def is_table(book, table):
