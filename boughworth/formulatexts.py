@@ -6,6 +6,7 @@ thousands of brackets may.
 
 from boughworth.errors import NoText
 from boughworth.formulas import folded, is_formula
+from boughworth.kinds import writes_whole
 
 MOST_FIGURES = 6
 PART_FIGURES = ("0", "1", "2")
@@ -66,7 +67,7 @@ def unbracketed(inside):
 
 
 def read_leaf(word):
-    if is_number(word):
+    if writes_whole(word, MOST_FIGURES):
         return ("num", int(word))
     cut = word.partition(".")
     if cut[0] == "own":
@@ -74,11 +75,3 @@ def read_leaf(word):
     if cut[0] in PART_FIGURES:
         return ("part", int(cut[0]), cut[2])
     return word
-
-
-# Each sign is compared by itself: int takes blanks, a + ahead and figures of other scripts, too.
-def is_number(word):
-    figures = word[1:] if word.startswith("-") else word
-    if not 1 <= len(figures) <= MOST_FIGURES:
-        return False
-    return all(["0" <= sign <= "9" for sign in figures]) and str(int(word)) == word

@@ -1,4 +1,4 @@
-"""What a whole number and a word are."""
+"""What a whole number and a word are, and which texts write whole numbers."""
 
 MOST_LETTERS = 8
 
@@ -17,3 +17,12 @@ def is_word(thing):
     if not isinstance(thing, str) or not 1 <= len(thing) <= MOST_LETTERS:
         return False
     return all(["a" <= sign <= "z" for sign in thing])
+
+
+# By figures, no 0 ahead but 0 itself, - ahead where it is below 0. Each sign is compared by itself: int takes blanks,
+# a + ahead and figures of other scripts, too.
+def writes_whole(text, most_figures):
+    figures = text[1:] if text.startswith("-") else text
+    if not 1 <= len(figures) <= most_figures:
+        return False
+    return all(["0" <= sign <= "9" for sign in figures]) and str(int(text)) == text

@@ -1,6 +1,7 @@
 """Whether any tree of a book has a ring: by a table of hangs that is safe, or by a least tree that has one."""
 
 from boughworth.books import downs_of, forms_of, parts_of, sort_of_form, sorts_of, ups_of
+from boughworth.choices import choices, choices_of_size, tree_chosen
 from boughworth.errors import TooGreat
 from boughworth.growth import forms_that_live, least_sizes
 from boughworth.hangs import hang_at, reads_at_form, reads_with_hangs
@@ -53,17 +54,6 @@ def is_within_one(hang, others):
     return any([all([pair in other for pair in hang]) for other in others])
 
 
-# All tuples of one thing from each list.
-def choices(lists):
-    chosen = [()]
-    for things in lists:
-        longer = []
-        for row in chosen:
-            longer.extend([row + (thing,) for thing in things])
-        chosen = longer
-    return chosen
-
-
 # From the fewest places on, so that the first tree with a ring has the fewest. Its parts have none, so its ring shows
 # at its form, with the hangs of its parts; and of all trees with one hang it is enough to know a least one.
 def order_for_all(book):
@@ -80,12 +70,11 @@ def order_for_all(book):
     return ("safe", safe_table(book, known))
 
 
-# known has for each sort a dict from hangs to tuples of the places of a least tree with this hang, and the tree. Told
-# is the first tree with a ring, or None.
+# What is known of trees are their hangs. Told is the first tree with a ring, or None.
 def learn_of_size(book, form, rules_read, size, known):
     sort = sort_of_form(form)
     for hangs in choices_of_size(known, parts_of(form), size - 1):
-        tree = (form[0], tuple([known[part][hang][1] for part, hang in zip(parts_of(form), hangs)]))
+        tree = tree_chosen(form, known, hangs)
         reads = reads_with_hangs(rules_read, hangs)
         if ring_in(reads) is not None:
             return tree
@@ -94,17 +83,6 @@ def learn_of_size(book, form, rules_read, size, known):
         if not is_within_one(made, list(known[sort])):
             known[sort][made] = (size, tree)
     return None
-
-
-# All choices of a known hang for each part, by which the parts' least trees have just so many places together.
-def choices_of_size(known, parts, total):
-    rows = [((), total)]
-    for part in parts:
-        longer = []
-        for chosen, left in rows:
-            longer.extend([(chosen + (hang,), left - told[0]) for hang, told in known[part].items() if told[0] <= left])
-        rows = longer
-    return [chosen for chosen, left in rows if left == 0]
 
 
 # Beyond that nothing is promised, and the choices would soon be too many to look at.

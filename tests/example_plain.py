@@ -1,5 +1,6 @@
 """Plain books, and what the words of the document tell of them; several tests use it."""
 
+import functools
 import random
 
 from example_books import all_spots, book_with, part
@@ -61,6 +62,7 @@ def worths_by_the_words(book, tree):
     return worths
 
 
+@functools.lru_cache(maxsize=20000)
 def row_by_the_words(one, other, tree):
     """Point 27: 1, all ups at the top by the one book, and by the other one."""
     told = (1,)

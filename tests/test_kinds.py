@@ -2,7 +2,7 @@
 
 import unittest
 
-from boughworth.kinds import is_whole, is_whole_within, is_word
+from boughworth.kinds import is_whole, is_whole_within, is_word, writes_whole
 
 
 class WholeTest(unittest.TestCase):
@@ -43,6 +43,25 @@ class WordTest(unittest.TestCase):
         for thing in (None, True, 1, (), ("a",), [], ["a"], {}, {"a": "a"}):
             with self.subTest(thing=thing):
                 self.assertIs(is_word(thing), False)
+
+
+class WritesWholeTest(unittest.TestCase):
+
+    def test_numbers(self):
+        for number in (0, 7, 10, 999, -1, -10, -999):
+            self.assertIs(writes_whole(str(number), 3), True)
+
+    def test_figures_are_counted_without_the_sign(self):
+        for text, due in (("1000", False), ("-1000", False), ("-999", True), ("9" * 30, False), ("9" * 5000, False)):
+            self.assertIs(writes_whole(text, 3), due)
+        self.assertIs(writes_whole("9" * 30, 30), True)
+        self.assertIs(writes_whole("-" + "9" * 31, 30), False)
+
+    def test_other_texts(self):
+        for text in ("", "-", "+1", "01", "-0", "00", "-01", "1 ", " 1", "1\n", "1_0", "1.", "x", "--1", "1-", "\u0661",
+                     "\u00b2", "0x1", "- 1"):
+            with self.subTest(text=text):
+                self.assertIs(writes_whole(text, 9), False)
 
 
 if __name__ == "__main__":

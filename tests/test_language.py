@@ -235,6 +235,26 @@ class LanguageTest(unittest.TestCase):
             if isinstance(node, ast.Call) and isinstance(node.func, ast.Attribute):
                 self.assertIn(node.func.attr, known, where)
 
+    def test_no_name_is_a_method_and_a_value(self):
+        taken = own_methods()
+        python_names = set(dir(str) + dir(int) + dir(list) + dir(dict) + dir(set) + dir(bytes) + dir(tuple))
+        for name in taken - {"__init__"}:
+            self.assertNotIn(name, python_names)
+        for name, text in sources():
+            tree = ast.parse(text)
+            called = [node.func for node in ast.walk(tree) if isinstance(node, ast.Call)]
+            for node in ast.walk(tree):
+                if isinstance(node, ast.Attribute) and node not in called:
+                    self.assertNotIn(node.attr, taken, f"{name}:{node.lineno}")
+                    self.assertNotIn(node.attr, python_names, f"{name}:{node.lineno}")
+
+    def test_defaults_and_decorators(self):
+        for where, node in nodes():
+            if isinstance(node, (ast.FunctionDef, ast.ClassDef)):
+                self.assertEqual(node.decorator_list, [], where)
+            if isinstance(node, ast.arguments):
+                self.assertEqual((node.vararg, node.kwarg, node.kwonlyargs), (None, None, []), where)
+
 
 if __name__ == "__main__":
     unittest.main()
