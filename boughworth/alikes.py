@@ -11,7 +11,7 @@ from boughworth.errors import NoBuild, NoPlain, NoTree, NoWorth, TooGreat
 from boughworth.growth import forms_that_live, least_sizes
 from boughworth.plainbooks import is_plain, of_one_build, row_by_form, row_of
 from boughworth.rows import columns_left, fractions_for, is_fraction, is_made_up, steps_of, steps_with
-from boughworth.trees import MOST_PLACES, is_tree, sort_of
+from boughworth.trees import MOST_PLACES, is_tree_of
 
 MOST_IN_A_BASIS = 8
 
@@ -52,13 +52,17 @@ def rows_known(one, other):
         steps[name] = []
     for size in range(1, MOST_PLACES + 1):
         for form in forms_of(one):
-            sort = sort_of_form(form)
-            for rows in choices_of_size(known, parts_of(form), size - 1):
-                row = row_by_form(one, other, form[0], rows)
-                if columns_left(steps[sort], row):
-                    known[sort][row] = (size, tree_chosen(form, known, rows))
-                    steps[sort] = steps_with(steps[sort], row)
+            learn_of_size(one, other, form, size, known, steps)
     return known
+
+
+def learn_of_size(one, other, form, size, known, steps):
+    sort = sort_of_form(form)
+    for rows in choices_of_size(known, parts_of(form), size - 1):
+        row = row_by_form(one, other, form[0], rows)
+        if columns_left(steps[sort], row):
+            known[sort][row] = (size, tree_chosen(form, known, rows))
+            steps[sort] = steps_with(steps[sort], row)
 
 
 def basis_of(one, other, known):
@@ -103,10 +107,6 @@ def bears_out(one, other, sort, x, y, basis):
     if not all([is_sum(told[1], rows[told[0]], sums[key]) for key, told in made.items()]):
         return False
     return all([is_same(one, other, sort, x, y, row) for row in rows[sort]])
-
-
-def is_tree_of(book, sort, tree):
-    return is_tree(book, tree) and sort_of(book, tree) == sort
 
 
 def is_sum(row, rows, fractions):

@@ -10,7 +10,7 @@ from boughworth.errors import NoPrice
 from boughworth.formulas import readings_of, tuples_of
 from boughworth.growth import forms_that_live, grown_forms, least_sizes
 from boughworth.reckoning import reckoned
-from boughworth.trees import is_tree, sort_of
+from boughworth.trees import is_tree_of
 
 PRICE_KINDS = ("num", "part", "plus", "most")
 
@@ -95,6 +95,4 @@ def is_cheapest(book, pricing, told):
 
 
 def has_price(book, pricing, sort, pair):
-    if not is_tree(book, pair[1]) or sort_of(book, pair[1]) != sort:
-        return False
-    return worth_at(book, pair[1], {}, ((), pricing[sort])) == pair[0]
+    return is_tree_of(book, sort, pair[1]) and worth_at(book, pair[1], {}, ((), pricing[sort])) == pair[0]

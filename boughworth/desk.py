@@ -61,17 +61,15 @@ def found_under(shelf, name):
 
 def answer_to(first, things):
     if first in ("worth", "order"):
-        return answer_of_tree(first, things[0][0], things[0][1], things[1:])
-    if first in ("put", "give", "back"):
-        return str(len(spots_anew(first, things[0][0], things[0][1], things[1:])))
-    if first == "show":
-        return show_tree(things[0][1].tree())
-    if first == "tell":
-        return str(things[0][1].worth((things[1], things[2])))
+        return answer_of_tree(first, things[0], things[1:])
+    if first in ("put", "give", "back", "show", "tell"):
+        return answer_of_kept(first, things[0], things[1:])
     return answer_of_books(first, things)
 
 
-def answer_of_tree(first, book, tree, things):
+def answer_of_tree(first, pair, things):
+    book = pair[0]
+    tree = pair[1]
     if first == "worth":
         return str(worth_at(book, tree, things[2], (things[0], things[1])))
     told = worths_of(book, tree, things[0])
@@ -80,12 +78,18 @@ def answer_of_tree(first, book, tree, things):
     return " ".join(["order"] + [show_spot(spot) for spot in told[2]])
 
 
-def spots_anew(first, book, kept, things):
+def answer_of_kept(first, pair, things):
+    book = pair[0]
+    kept = pair[1]
+    if first == "show":
+        return show_tree(kept.tree())
+    if first == "tell":
+        return str(kept.worth((things[0], things[1])))
     if first == "put":
-        return kept.put(things[0], read_tree(book, things[1]))
+        return str(len(kept.put(things[0], read_tree(book, things[1]))))
     if first == "give":
-        return kept.give(things[0], things[1])
-    return kept.back()
+        return str(len(kept.give(things[0], things[1])))
+    return str(len(kept.back()))
 
 
 def answer_of_books(first, things):
@@ -98,5 +102,9 @@ def answer_of_books(first, things):
     if first == "alike":
         told = alike(things[0], things[1], things[2], things[3], things[4])
         return "alike" if told[0] == "alike" else "parted " + show_tree(told[1])
-    told = cheapest(things[0], things[1])
-    return " ".join([sort[0] + ":" + str(told[sort[0]][0]) for sort in sorts_of(things[0]) if sort[0] in told])
+    return show_prices(things[0], cheapest(things[0], things[1]))
+
+
+def show_prices(book, told):
+    found = [sort[0] for sort in sorts_of(book) if sort[0] in told]
+    return " ".join([name + ":" + str(told[name][0]) for name in found])

@@ -34,6 +34,10 @@ def sort_of(book, tree):
     return sort_of_form(form_named(book, tree[0]))
 
 
+def is_tree_of(book, sort, thing):
+    return is_tree(book, thing) and sort_of(book, thing) == sort
+
+
 def places_of(tree):
     return list(boughs_by_place(tree))
 
