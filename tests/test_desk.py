@@ -1,5 +1,7 @@
 """Point 31: the desk."""
 
+import random
+import re
 import unittest
 
 from boughworth.booktexts import show_book
@@ -506,6 +508,43 @@ class RowTest(DeskCase):
                     "alike c c t q q", "alike plain c t q q", "alike c b t q q", "cheap c s=q"):
             self.refuses(row, NoName)
         self.says("show k", TWO)
+
+
+W, PLACE, N = "[a-z]{1,8}", r"(?:top|[0-2](?:\.[0-2])*)", "(?:0|-?[1-9][0-9]{0,29})"
+GRAMMAR = [re.compile(text, re.DOTALL) for text in (
+    f"book {W}\n.*", f"tree {W} {W} .*", f"worth {W} {PLACE} {W}(?: {W}={N})*", f"order {W}(?: {W}={N})*", f"safe {W}",
+    f"passes {W}", f"straight {W} {W}", f"keep {W} {W}(?: {W}={N})*", f"put {W} {PLACE} .*", f"give {W} {W} {N}", f"back {W}",
+    f"show {W}", f"tell {W} {PLACE} {W}", f"alike {W} {W} {W} {W} {W}", f"cheap {W}(?: {W}={W})+",
+)]
+
+
+def is_row_by_the_words(row):
+    if not any(kind.fullmatch(row) for kind in GRAMMAR):
+        return False
+    told = [word.partition("=")[0] for word in row.split(" ") if "=" in word]
+    return row.startswith(("book ", "tree ", "put ")) or len(set(told)) == len(told)
+
+
+class GrammarTest(DeskCase):
+
+    def test_rows_bent_at_random(self):
+        """On an empty desk a row that is one is refused for its names, or, of a book, its text."""
+        rows = ["worth t top x a=1 b=-20", "worth t 0.1.2 x", "order t a=0 b=10", "safe b", "passes b", "straight a b",
+                "keep k t a=1 b=2", "put k 0.2 f(g, h)", "put k top ", "give k d -15", "back k", "show k", "tell k 1.1 x",
+                "alike a b s x y", "cheap b s=x t=y", "tree t b f(g, h)", "book b\nwheel 0"]
+        chance, seen = random.Random(31), {True: 0, False: 0}
+        for _ in range(6000):
+            row = chance.choice(rows)
+            for _ in range(chance.randrange(1, 3)):
+                k = chance.randrange(len(row) + 1)
+                row = row[:k] + chance.choice(["", "", *" =.-0129abtx\nA", "top", " a=1"]) + row[k + chance.randrange(2):]
+            due = is_row_by_the_words(row)
+            seen[due] += 1
+            with self.subTest(row=row), self.assertRaises(BoughError) as caught:
+                self.desk.say(row)
+            refusals = (NoText,) if row.startswith("book ") else (NoName,)
+            self.assertIn(type(caught.exception), refusals if due else (NoRow,), row)
+        self.assertGreater(min(seen.values()), 500, seen)
 
 
 class NamesTest(DeskCase):
