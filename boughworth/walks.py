@@ -19,7 +19,7 @@ def walked(book, tree, given, table):
 def steps_of_walks(book, tree, table, reads):
     groups = groups_of_walk(book, tree)
     steps = []
-    for number in sorted(set(table.values())):
+    for number in sorted(set(list(table.values()))):
         for sort, spots in groups:
             due = [spot for spot in spots if table[(sort, spot[1])] == number]
             steps.extend([(number, spot) for spot in in_turn(due, reads)])

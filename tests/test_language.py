@@ -28,6 +28,43 @@ METHODS = set((
     "setdefault split splitlines startswith strip update upper values zfill bit_length"
 ).split())
 CHANGES = ("append", "clear", "extend", "insert", "pop", "remove", "reverse", "setdefault", "update")
+WALKED_NAMES = ("zip", "enumerate", "reversed", "range")
+WALKED_METHODS = ("items", "keys", "values")
+WALK_AS_FIRST_IN = ("list", "tuple", "dict", "sorted", "sum", "any", "all", "enumerate", "zip")
+WALKS_KEPT = (
+    "for number in sorted(set(WALK)):\n        pass", "walk = WALK", "return WALK", "walk = [WALK]", "walk = (WALK, 1)",
+    "walk = {1: WALK}", "walk = set(WALK)", "walk = frozenset(WALK)", "many = len(list(d)) + len(WALK)", "told(WALK)",
+    "walk = 1 in WALK", "walk = WALK == a", "walk = WALK[0]", "least = min(WALK, a)", "most = max(0, WALK)",
+    "least = min(WALK, default=0)", "walk = list(zip(a, WALK))", "a.extend(WALK)", "text = a.join(WALK)",
+    "walk = sum(a, WALK)", "walk = WALK if n else a", "walk = [one for one in a if WALK]", "walk = lambda: WALK",
+    "walk = WALK or a", "while WALK:\n        pass", "if not WALK:\n        pass", "WALK", "walk = a.sorted(WALK)",
+    "for one in [WALK]:\n        pass", "for one in (WALK if n else a):\n        pass", "walk = [WALK for one in a]",
+    "for one in list(reversed(WALK)):\n        pass", "walk = str(WALK)", "a[0] = WALK", "walk = sorted(a, key=WALK)",
+)
+WALKED_AT_ONCE = (
+    "for one in WALK:\n    pass", "walk = [one for one in WALK]", "walk = [one for one in WALK if one]",
+    "walk = list(WALK)", "walk = tuple(WALK)", "walk = dict(WALK)", "walk = sorted(WALK, reverse=True)",
+    "many = sum(WALK)", "many = sum(WALK, 1)", "fits = any(WALK)", "fits = all(WALK)", "walk = list(enumerate(WALK))",
+    "walk = list(zip(WALK, a))", "least = min(WALK)", "most = max(WALK)", "text = ', '.join(WALK)",
+    "for number in sorted(set(list(WALK))):\n    pass", "for one in enumerate(WALK, start=1):\n    pass",
+)
+OPERATORS_OF_SETS = (ast.Sub, ast.BitAnd, ast.BitOr, ast.BitXor)
+SETS_KEPT = (
+    "kept = SET", "kept = {1, 2}", "kept = [SET]", "told(SET)", "for one in SET:\n    pass", "kept = list(SET)",
+    "kept = [one for one in SET]", "kept = sorted(SET, reverse=True)", "fits = SET == b", "fits = SET < set(b)",
+    "fits = SET in b", "kept = SET | set(b)", "many = sum(SET)", "least = min(SET)", "fits = SET or b", "SET.pop()",
+    "kept = sorted(SET + set(b))", "kept = sorted(SET | b)", "if SET:\n    pass", "fits = SET == set(b) == c",
+)
+SETS_USED_AT_ONCE = (
+    "fits = one in SET", "fits = one not in SET", "fits = SET == set(b)", "fits = set(b) != SET", "many = len(SET)",
+    "kept = sorted(SET)", "kept = sorted(SET | set(b))", "many = len(SET & set(b) - set(c))", "fits = one in {1, 2}",
+    "fits = SET ^ set(b) == set(c)",
+)
+KEYWORDS = {
+    "sorted": ("key", "reverse"), "min": ("key", "default"), "max": ("key", "default"), "sum": ("start",),
+    "enumerate": ("start",), "zip": ("strict",),
+}
+KEYS = ("len", "int", "str", "abs", "sum", "min", "max", "tuple")
 NO_NAMES = set((
     "register mro elements open input version_info with_traceback add_note attrgetter breakpoint builtins compile "
     "copyright credits delattr dir eval exec exit gc getattr globals hasattr help id importlib license locals "
@@ -74,14 +111,128 @@ def called_name(node):
     return node.func.id if isinstance(node, ast.Call) and isinstance(node.func, ast.Name) else None
 
 
+def is_walk(node):
+    """Whether a node is what is to be walked on the spot, or the name or method that would make it."""
+    if isinstance(node, ast.Call):
+        return is_walk(node.func)
+    if isinstance(node, ast.Attribute):
+        return node.attr in WALKED_METHODS
+    return isinstance(node, ast.Name) and node.id in WALKED_NAMES
+
+
+def is_walked_in(outer, walk):
+    """Whether the node that a walk stands straight within walks it on the spot."""
+    if isinstance(outer, (ast.For, ast.comprehension)):
+        return outer.iter is walk
+    if not isinstance(outer, ast.Call) or outer.args[:1] != [walk]:
+        return False
+    if isinstance(outer.func, ast.Attribute):
+        text = outer.func.value
+        return outer.func.attr == "join" and isinstance(text, ast.Constant) and isinstance(text.value, str)
+    if called_name(outer) in ("min", "max"):
+        return len(outer.args) == 1 and outer.keywords == []
+    return called_name(outer) in WALK_AS_FIRST_IN
+
+
+def rows_of_kept_walks(text):
+    """The rows of a file where a walk stands elsewhere than where it is walked on the spot."""
+    found = []
+    for outer in ast.walk(ast.parse(text)):
+        for inner in ast.iter_child_nodes(outer):
+            is_made = isinstance(outer, ast.Call) and outer.func is inner
+            if is_walk(inner) and not is_made and not (isinstance(inner, ast.Call) and is_walked_in(outer, inner)):
+                found.append(inner.lineno)
+    return found
+
+
+def is_set(node):
+    """Whether a node makes a set, by itself or out of several sets."""
+    if isinstance(node, ast.BinOp):
+        return is_set(node.left) or is_set(node.right)
+    return isinstance(node, ast.Set) or called_name(node) in ("set", "frozenset")
+
+
+def is_set_used_in(outer, made):
+    """Whether the node that a set stands straight within asks, compares, counts or sorts it on the spot."""
+    if isinstance(outer, ast.BinOp):
+        return is_set(outer.left) and is_set(outer.right) and isinstance(outer.op, OPERATORS_OF_SETS)
+    if isinstance(outer, ast.Compare) and len(outer.ops) == 1:
+        if isinstance(outer.ops[0], (ast.In, ast.NotIn)):
+            return outer.comparators == [made] and not is_set(outer.left)
+        both = is_set(outer.left) and is_set(outer.comparators[0])
+        return both and isinstance(outer.ops[0], (ast.Eq, ast.NotEq))
+    return called_name(outer) in ("sorted", "len") and outer.args == [made] and outer.keywords == []
+
+
+def rows_of_kept_sets(text):
+    found = []
+    for outer in ast.walk(ast.parse(text)):
+        for inner in ast.iter_child_nodes(outer):
+            if is_set(inner) and not is_set_used_in(outer, inner):
+                found.append(inner.lineno)
+    return found
+
+
+def root_name(node):
+    """The name that an index or a value of an object is taken from, however deep."""
+    while isinstance(node, (ast.Subscript, ast.Attribute)):
+        node = node.value
+    return node.id if isinstance(node, ast.Name) else None
+
+
 def changed_name(node):
     """The name of what a call or an assignment changes, None where it changes nothing that has a name."""
-    changed = None
     if isinstance(node, ast.Call) and isinstance(node.func, ast.Attribute) and node.func.attr in CHANGES:
-        changed = node.func.value
-    if isinstance(node, ast.Subscript) and isinstance(node.ctx, ast.Store):
-        changed = node.value
-    return changed.id if isinstance(changed, ast.Name) else None
+        return root_name(node.func.value)
+    if isinstance(node, (ast.Subscript, ast.Attribute)) and isinstance(node.ctx, ast.Store):
+        return root_name(node.value)
+    return None
+
+
+def names_walked(walk):
+    """The names of what is walked itself; what another call makes of them is walked in their place."""
+    if isinstance(walk, ast.Call) and isinstance(walk.func, ast.Attribute) and walk.func.attr in WALKED_METHODS:
+        return names_walked(walk.func.value)
+    if called_name(walk) in WALKED_NAMES:
+        return [name for one in walk.args for name in names_walked(one)]
+    return [root_name(walk)] if root_name(walk) else []
+
+
+def rows_of_changed_walks(text):
+    """The rows of a file that change, within a loop or a comprehension, what it walks."""
+    found = []
+    for node in ast.walk(ast.parse(text)):
+        walks = [node.iter] if isinstance(node, ast.For) else []
+        within = node.body if isinstance(node, ast.For) else []
+        if isinstance(node, ast.ListComp):
+            walks = [one.iter for one in node.generators]
+            within = [node.elt] + [test for one in node.generators for test in one.ifs]
+        names = [name for walk in walks for name in names_walked(walk)]
+        found += [inner.lineno for one in within for inner in ast.walk(one) if changed_name(inner) in names]
+    return found
+
+
+def places_of_own_names(node):
+    """What stands right within a node where a name of Python's own may stand."""
+    if isinstance(node, ast.ClassDef):
+        return node.bases
+    if isinstance(node, ast.keyword):
+        return [node.value] if node.arg == "key" and getattr(node.value, "id", "") in KEYS else []
+    if called_name(node) == "isinstance":
+        kinds = node.args[1]
+        return [node.func] + (kinds.elts if isinstance(kinds, ast.Tuple) else [kinds])
+    return [node.func] if isinstance(node, ast.Call) else []
+
+
+def is_only_read(outer, held):
+    """Whether the node that a list or dict of a file's top stands straight within reads it and hands it on to none."""
+    if isinstance(outer, ast.Subscript):
+        return outer.value is held and isinstance(outer.ctx, ast.Load)
+    if isinstance(outer, ast.Attribute):
+        return outer.attr in ("get", "items", "keys", "values", "index", "count")
+    if isinstance(outer, ast.Call):
+        return called_name(outer) in ("len", "list", "dict", "tuple", "sorted")
+    return isinstance(outer, (ast.Compare, ast.For, ast.comprehension))
 
 
 def own_methods():
@@ -172,26 +323,48 @@ class LanguageTest(unittest.TestCase):
                                 self.assertNotIn(local, taken, f"{name}:{node.lineno}")
 
     def test_what_is_walked_at_once(self):
-        for where, node in nodes():
-            if isinstance(node, (ast.Assign, ast.Return)) and isinstance(node.value, ast.Call):
-                called = node.value.func
-                word = called.id if isinstance(called, ast.Name) else getattr(called, "attr", "")
-                self.assertNotIn(word, ("zip", "enumerate", "reversed", "range", "items", "keys", "values"), where)
+        for name, text in sources():
+            self.assertEqual(rows_of_kept_walks(text), [], name)
+
+    def test_the_look_at_walks_finds_each_that_is_kept(self):
+        for walk in ("zip(a, b)", "enumerate(a)", "reversed(a)", "range(n)", "d.items()", "d.keys()", "d.values()"):
+            for form in WALKS_KEPT:
+                self.assertIn(2, rows_of_kept_walks("def told(a, b, d, n):\n    " + form.replace("WALK", walk)), form)
+            for form in WALKED_AT_ONCE:
+                self.assertEqual(rows_of_kept_walks(form.replace("WALK", walk)), [], form)
+        for word in WALKED_METHODS:
+            self.assertEqual(rows_of_kept_walks(f"walk = d.{word}"), [1], word)
+        for word in WALKED_NAMES:
+            self.assertEqual(rows_of_kept_walks(f"walk = {word}"), [1], word)
 
     def test_nothing_that_a_loop_walks_is_changed_in_it(self):
-        for where, node in nodes():
-            if isinstance(node, ast.For):
-                walked = set(inner.id for inner in ast.walk(node.iter) if isinstance(inner, ast.Name))
-                for inner in [one for row in node.body for one in ast.walk(row)]:
-                    self.assertNotIn(changed_name(inner), walked, where)
-
-    def test_sets_are_only_compared_counted_or_sorted(self):
         for name, text in sources():
-            for node in ast.walk(ast.parse(text)):
-                for inner in ast.iter_child_nodes(node):
-                    if isinstance(inner, ast.Set) or called_name(inner) in ("set", "frozenset"):
-                        fits = isinstance(node, ast.Compare) or called_name(node) in ("sorted", "len")
-                        self.assertTrue(fits, f"{name}:{inner.lineno}")
+            self.assertEqual(rows_of_changed_walks(text), [], name)
+
+    def test_the_look_at_loops_finds_each_change(self):
+        changes = ("d[0] = 1", "d[0] += 1", "d.append(1)", "d[0].pop()", "d.inner.clear()")
+        for walked in ("d", "enumerate(d)", "zip(b, d)", "reversed(d)", "d.items()", "d[0]", "d.inner",
+                       "zip(b, enumerate(d.values()))"):
+            for change in changes:
+                self.assertEqual(rows_of_changed_walks(f"for one in {walked}:\n    {change}"), [2], walked)
+                deeper = f"for one in {walked}:\n    if b:\n        {change}"
+                self.assertEqual(rows_of_changed_walks(deeper), [3], walked)
+            self.assertEqual(rows_of_changed_walks(f"told = [d.pop() for one in {walked}]"), [1], walked)
+            self.assertEqual(rows_of_changed_walks(f"told = [one for one in {walked} if d.pop()]"), [1], walked)
+            self.assertEqual(rows_of_changed_walks(f"for one in {walked}:\n    told.append(d[0])"), [], walked)
+        for walked in ("list(d)", "sorted(d)", "told(d)", "range(len(d))"):
+            for change in changes:
+                self.assertEqual(rows_of_changed_walks(f"for one in {walked}:\n    {change}"), [], walked)
+
+    def test_sets_are_only_asked_compared_counted_or_sorted(self):
+        for name, text in sources():
+            self.assertEqual(rows_of_kept_sets(text), [], name)
+
+    def test_the_look_at_sets_finds_each_that_is_kept(self):
+        for form in SETS_KEPT:
+            self.assertIn(1, rows_of_kept_sets(form.replace("SET", "set(a)")), form)
+        for form in SETS_USED_AT_ONCE:
+            self.assertEqual(rows_of_kept_sets(form.replace("SET", "set(a)")), [], form)
 
     def test_statements(self):
         for where, node in nodes():
@@ -217,6 +390,73 @@ class LanguageTest(unittest.TestCase):
                 self.assertLessEqual(len(node.generators[0].ifs), 1, where)
             if isinstance(node, ast.Compare) and any(isinstance(op, (ast.Is, ast.IsNot)) for op in node.ops):
                 self.assertIsInstance(node.comparators[-1], ast.Constant, where)
+
+    def test_calls_by_themselves(self):
+        for where, node in nodes():
+            has_docstring = isinstance(node, (ast.Module, ast.FunctionDef, ast.ClassDef)) and ast.get_docstring(node)
+            for inner in ast.iter_child_nodes(node):
+                if isinstance(inner, ast.Expr) and not (has_docstring and inner is node.body[0]):
+                    self.assertIsInstance(inner.value, ast.Call, where)
+
+    def test_texts_made_of_names(self):
+        for where, node in nodes():
+            if isinstance(node, ast.FormattedValue):
+                self.assertIsInstance(node.value, ast.Name, where)
+                self.assertIsNone(node.format_spec, where)
+
+    def test_signs_within_texts(self):
+        for name, text in sources():
+            for found in re.findall(r"\\.", text, re.DOTALL):
+                self.assertIn(found[1], "nt\\'\"", name)
+
+    def test_powers_have_a_written_exponent(self):
+        for where, node in nodes():
+            if isinstance(node, (ast.BinOp, ast.AugAssign)) and isinstance(node.op, ast.Pow):
+                exponent = node.right if isinstance(node, ast.BinOp) else node.value
+                self.assertIsInstance(exponent, ast.Constant, where)
+                self.assertIn(exponent.value, range(65), where)
+
+    def test_errors_are_made_where_they_are_raised(self):
+        for where, node in nodes():
+            if isinstance(node, ast.Raise):
+                self.assertIsInstance(node.exc, ast.Call, where)
+
+    def test_keywords_of_pythons_own_names_and_methods(self):
+        for where, node in nodes():
+            if isinstance(node, ast.Call) and (isinstance(node.func, ast.Attribute) or called_name(node) in OWN_NAMES):
+                for keyword in node.keywords:
+                    self.assertIn(keyword.arg, KEYWORDS.get(called_name(node), ()), where)
+
+    def test_names_of_pythons_own_are_called(self):
+        for name, text in sources():
+            found = list(ast.walk(ast.parse(text)))
+            placed = set(inner for node in found for inner in places_of_own_names(node))
+            for node in found:
+                if isinstance(node, ast.Name) and node.id in OWN_NAMES:
+                    self.assertIn(node, placed, f"{name}:{node.lineno}")
+
+    def test_what_a_file_holds_at_its_top_is_only_read(self):
+        for name, text in sources():
+            tree = ast.parse(text)
+            held = [node.targets[0].id for node in tree.body
+                    if isinstance(node, ast.Assign) and isinstance(node.value, (ast.List, ast.Dict))]
+            for node in ast.walk(tree):
+                for inner in ast.iter_child_nodes(node):
+                    if isinstance(inner, ast.Name) and inner.id in held and isinstance(inner.ctx, ast.Load):
+                        self.assertTrue(is_only_read(node, inner), f"{name}:{inner.lineno}")
+                if isinstance(node, ast.ImportFrom):
+                    others = (PACKAGE / (node.module.removeprefix("boughworth.") + ".py")).read_text(encoding="utf-8")
+                    for alias in node.names:
+                        self.assertNotRegex(others, rf"(?m)^{alias.name} = [\[{{]", name)
+
+    def test_no_two_lambdas_stand_on_one_line(self):
+        rows = [where for where, node in nodes() if isinstance(node, ast.Lambda)]
+        self.assertEqual(len(rows), len(set(rows)))
+
+    def test_no_annotations(self):
+        for where, node in nodes():
+            if isinstance(node, (ast.arg, ast.FunctionDef)):
+                self.assertIsNone(node.annotation if isinstance(node, ast.arg) else node.returns, where)
 
     def test_names(self):
         for where, node in nodes():
